@@ -75,6 +75,18 @@ def need_some(rows, some):
             raise NoRow(place)
 
 
+def downs(rows):
+    """For each of these rows whether it looks down."""
+    # Each row names rows ahead alone, so one walk settles all, however long a chain is.
+    down = []
+    for row in rows:
+        if row[0] == "shown":
+            down.append(True)
+        else:
+            down.append(row[0] != "does" and all([down[part] for part in parts_of(row)]))
+    return down
+
+
 def looks_down(rows, at):
     """Whether the row hangs on what is shown alone, not on what is done now."""
     need_rows(rows)
@@ -82,14 +94,7 @@ def looks_down(rows, at):
         raise NoRow(0)
     if not 0 <= at < len(rows):
         raise NoRow(at)
-    # Each row names rows ahead alone, so one walk settles all, however long a chain is.
-    down = []
-    for row in rows[:at + 1]:
-        if row[0] == "shown":
-            down.append(True)
-        else:
-            down.append(row[0] != "does" and all([down[part] for part in parts_of(row)]))
-    return down[at]
+    return downs(rows[:at + 1])[at]
 
 
 def hangs_on(rows, some):

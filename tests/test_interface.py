@@ -23,9 +23,19 @@ FILES = {
         "hangs_on": ["rows", "some"], "showns": ["rows", "some"],
     },
     "players": {"Player": ["moves", "rows", "chosen"], "plain": ["moves", "move"]},
+    "meetings": {"Meeting": ["players"], "shows_last": ["players", "paper", "moves"]},
+    "playertexts": {"player_text": ["player"], "read_player": ["text"]},
+    "facing": {"Faced": ["player", "letters", "tail"], "opponent": ["moves", "letters", "tail"]},
+    "endings": {
+        "begin": ["player"], "move_by": ["player", "stand"], "led": ["player", "stand", "letter"],
+        "endings": ["player", "others"], "brought": ["player", "others", "mine", "yours"],
+        "shows_never": ["player", "others", "mine", "yours", "stands"],
+    },
 }
 METHODS = {
     "Player": {"moves": [], "rows": [], "chosen": [], "showns": [], "top": [], "__eq__": ["other"]},
+    "Meeting": {"moves_at": ["level"], "holds": ["seat", "row", "level"], "stays": [], "last": [], "paper": []},
+    "Faced": {"move_at": ["level"], "stays": [], "last": []},
 }
 
 
