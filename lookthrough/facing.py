@@ -8,13 +8,18 @@ from lookthrough.rows import is_list, is_move
 MOST_LETTERS = 99
 
 
-def need_letters(letters, tail, are_let):
-    """NoLetter where one of the letters, or the tail behind them, is none of those that are let."""
-    if not is_list(letters):
+def need_word(word, are_let):
+    """NoLetter where one of these letters is none of those that are let."""
+    if not is_list(word):
         raise NoLetter(0)
-    for at, letter in enumerate([*letters, tail]):
+    for at, letter in enumerate(word):
         if not are_let(letter):
             raise NoLetter(at)
+
+
+def need_letters(letters, tail, are_let):
+    """NoLetter where one of the letters, or the tail behind them, is none of those that are let."""
+    need_word([*letters, tail] if is_list(letters) else letters, are_let)
 
 
 def moves_facing(player, letters, tail):
@@ -66,20 +71,31 @@ def clock_rows(many):
     return rows
 
 
+def doer(moves, rows, marks):
+    """A player of these moves: of each mark (row, move) it does the move where the row holds.
+
+    Row 0 never holds, and at each level just one mark's row does, or several of the same move.
+    """
+    written, chosen = list(rows), []
+    for move in moves[:-1]:
+        chosen.append(0)
+        for at, done in marks:
+            if done == move:
+                written.append(("or", chosen[-1], at))
+                chosen[-1] = len(written) - 1
+    return Player(moves, written, chosen)
+
+
+def letter_marks(letters):
+    """The marks by which a player with enough clock rows does these letters, level by level."""
+    return [(3 * level + 3, letter) for level, letter in enumerate(letters)]
+
+
 def opponent(moves, letters, tail):
     """A player of these moves that looks at nobody and does the letters, level by level, then the tail."""
     need_moves(moves)
     need_letters(letters, tail, lambda letter: letter in moves)
     if len(letters) > MOST_LETTERS:
         raise TooLong(MOST_LETTERS)
-    rows = clock_rows(len(letters))
-    # The row that holds at each letter's level alone, and the one that holds behind them all.
-    clocks = [3 * level + 3 for level in range(len(letters))] + [3 * len(letters) + 1]
-    chosen = []
-    for move in moves[:-1]:
-        chosen.append(0)
-        for clock, letter in zip(clocks, [*letters, tail]):
-            if letter == move:
-                rows.append(("or", chosen[-1], clock))
-                chosen[-1] = len(rows) - 1
-    return Player(moves, rows, chosen)
+    marks = letter_marks(letters) + [(3 * len(letters) + 1, tail)]
+    return doer(moves, clock_rows(len(letters)), marks)

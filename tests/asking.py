@@ -37,3 +37,9 @@ def no_levels():
     """Things that are no level."""
     return [-1, -2, -10 ** 9, 10 ** 9 + 1, 10 ** 9 + 2, 10 ** 39, -10 ** 39, *no_numbers(),
             *other_objects(), [1, [2, {"c": (3, [4])}]]]
+
+
+def no_others():
+    """Things that are no list of 1 to 4 unlike moves."""
+    return [*no_lists(), [], (), ["c", "c"], ["c", "d", "c"], ["c", "d", "e", "f", "g"], ["c", "D"], ["c", ""],
+            ["abcdefghi"], [None], [["c"]], [("c",)], [True], [0], *other_objects(), nested(30, lambda thing: [thing])]

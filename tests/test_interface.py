@@ -31,11 +31,18 @@ FILES = {
         "endings": ["player", "others"], "brought": ["player", "others", "mine", "yours"],
         "shows_never": ["player", "others", "mine", "yours", "stands"],
     },
+    "alikes": {
+        "alike": ["one", "other", "others"], "shows_alike": ["one", "other", "others", "pairs"],
+        "parter": ["one", "other", "others"],
+    },
+    "machines": {"Machine": ["letters", "rows"], "machine_of": ["player", "others"]},
+    "writing": {"player_of": ["machine", "moves"], "smallest": ["player", "others"]},
 }
 METHODS = {
     "Player": {"moves": [], "rows": [], "chosen": [], "showns": [], "top": [], "__eq__": ["other"]},
     "Meeting": {"moves_at": ["level"], "holds": ["seat", "row", "level"], "stays": [], "last": [], "paper": []},
     "Faced": {"move_at": ["level"], "stays": [], "last": []},
+    "Machine": {"letters": [], "rows": [], "does": ["word"], "least": [], "__eq__": ["other"]},
 }
 
 
