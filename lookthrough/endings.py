@@ -154,18 +154,31 @@ def brought(player, others, mine, yours):
     return ("never", tuple(sorted(stands)))
 
 
-def shows_never(player, others, mine, yours, stands):
-    """Whether these stands show that no letters of others, then yours for ever, bring it to do mine at last."""
-    need_pair(player, others, mine, yours)
+def rests_among(player, others, stands):
+    """What it does and faces where stands rest by letters of others, or None: these stands aren't all there are.
+
+    They are where they are a tuple of stands of its form, the first one among them, and each letter
+    leads from each to one of them; in any order, also one twice, also more than are come to.
+    """
     if not isinstance(stands, tuple) or not all([is_stand(thing, player) for thing in stands]):
-        return False
+        return None
     known = set(stands)
     walker = Walker(player)
     if walker.first() not in known:
-        return False
+        return None
+    found = []
     for stand in sorted(known):
-        if not all([walker.led(stand, letter) in known for letter in others]):
-            return False
-        if walker.move(stand) == mine and walker.led(stand, yours) == stand:
-            return False
-    return True
+        for letter in others:
+            to = walker.led(stand, letter)
+            if to not in known:
+                return None
+            if to == stand:
+                found.append((walker.move(stand), letter))
+    return found
+
+
+def shows_never(player, others, mine, yours, stands):
+    """Whether these stands show that no letters of others, then yours for ever, bring it to do mine at last."""
+    need_pair(player, others, mine, yours)
+    rests = rests_among(player, others, stands)
+    return rests is not None and (mine, yours) not in rests

@@ -20,18 +20,21 @@ def is_machine_row(thing, letters, many):
     return all([is_below(to, many) for to in tos])
 
 
+def reached(rows, at):
+    """The numbers of the rows to which ways lead from this one, itself the first."""
+    found = {at: True}
+    fresh = [at]
+    while fresh:
+        for to in rows[fresh.pop()][1]:
+            if to not in found:
+                found[to] = True
+                fresh.append(to)
+    return list(found)
+
+
 def comes_back(rows, at):
     """Whether a way leads from this row to another one and back."""
-    seen = set()
-    fresh = [to for to in rows[at][1] if to != at]
-    while fresh:
-        row = fresh.pop()
-        if row == at:
-            return True
-        if row not in seen:
-            seen.add(row)
-            fresh.extend(rows[row][1])
-    return False
+    return any([at in rows[row][1] for row in reached(rows, at) if row != at])
 
 
 def need_machine(letters, rows):

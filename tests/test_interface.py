@@ -37,11 +37,22 @@ FILES = {
     },
     "machines": {"Machine": ["letters", "rows"], "machine_of": ["player", "others"]},
     "writing": {"player_of": ["machine", "moves"], "smallest": ["player", "others"]},
+    "worths": {
+        "Table": ["mine", "yours", "worths"], "floor": ["table"], "best": ["table", "player"], "standing": ["table"],
+        "stood": ["table", "a", "b"], "shows_stood": ["table", "a", "b", "answer"],
+    },
+    "house": {"House": []},
+    "judging": {"judged": ["record"]},
+    "desk": {"Desk": []},
 }
 METHODS = {
     "Player": {"moves": [], "rows": [], "chosen": [], "showns": [], "top": [], "__eq__": ["other"]},
     "Meeting": {"moves_at": ["level"], "holds": ["seat", "row", "level"], "stays": [], "last": [], "paper": []},
     "Faced": {"move_at": ["level"], "stays": [], "last": []},
+    "Table": {"mine": [], "yours": [], "worth": ["a", "b"], "turned": [], "__eq__": ["other"]},
+    "House": {"do": ["deed"], "back": [], "all_done": ["deeds"], "names": [], "player": ["name"], "ask": ["question"],
+              "made": [], "log": [], "twin": []},
+    "Desk": {"say": ["row"]},
     "Machine": {"letters": [], "rows": [], "does": ["word"], "least": [], "__eq__": ["other"]},
 }
 
