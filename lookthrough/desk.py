@@ -94,7 +94,7 @@ class Desk:
         word, ahead = words[0], AHEAD[words[0]]
         others = words[ahead:]
         if word == "brought":
-            _, name, mine, yours, _ = words[:ahead]
+            name, mine, yours = words[1:4]
             kind, letters = self._house.ask((word, name, others, mine, yours))
             return "never" if kind == "never" else joined("by", letters)
         if word == "alike":

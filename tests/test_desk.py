@@ -56,7 +56,8 @@ class Texts(Asked):
                          (TRUSTING + ["choose 1"], 4), (TRUSTING + [""], 4), (TRUSTING[:2] + ["shown 0"], 2),
                          (TRUSTING[:1] + ["does 1 C"] + TRUSTING[2:], 1), (TRUSTING[:3] + ["choose 01"], 3),
                          (["moves  c d"], 0), (["moves c d "] + TRUSTING[1:], 0), (TRUSTING[:3] + [" choose 1"], 3),
-                         (TRUSTING[:3] + ["choose 1 "], 3), (["player bob"] + TRUSTING, 0), (TRUSTING[:2] + ["back"], 2),
+                         (TRUSTING[:3] + ["choose 1 "], 3), (["player bob"] + TRUSTING, 0),
+                         (TRUSTING[:2] + ["back"], 2),
                          (TRUSTING[:3] + ["over "], 3), ([" over"], 0), (TRUSTING[:1] + ["what"] + TRUSTING[1:], 1)):
             desk = self.told(ann=till(3))
             with self.subTest(rows=rows):
@@ -67,7 +68,8 @@ class Texts(Asked):
 
     def test_refused(self):
         for rows, told in ((["moves c c", "choose"], "nomoves"), (["moves a b c d e", "choose"], "nomoves"),
-                           (["moves c d", "not 0", "choose 0"], "norow"), (["moves c d", "does 4 c", "choose"], "norow"),
+                           (["moves c d", "not 0", "choose 0"], "norow"),
+                           (["moves c d", "does 4 c", "choose"], "norow"),
                            (["moves c d", "shown 100 0", "choose 0"], "norow"),
                            (["moves c d", "does 1 c", "choose 0"], "nochoice"), (["moves c d", "choose"], "nochoice"),
                            (["moves c", "false", "choose 0"], "nochoice"), (["moves c d", "choose 0"], "nochoice"),
@@ -107,7 +109,8 @@ class Texts(Asked):
         for player in (nots(99, 200), opponent(CD, ["c", "d"] * 30, "d"), password(*"cdcdcdcdcdcdcdcdcdcdcdcdcdcd")):
             self.assertGreater(len(player.rows()), 180)
             desk = self.told(ann=player, bob=player)
-            self.says(desk, ("last ann bob", " ".join(Meeting([player, player]).last())), ("alike ann bob by c d", "alike"))
+            self.says(desk, ("last ann bob", " ".join(Meeting([player, player]).last())),
+                      ("alike ann bob by c d", "alike"))
             rows = player_text(player).split("\n")[:-1]
             for at in (1, 100, 150, len(rows) - 1):
                 self.tell(desk, "bob", rows[:at] + ["nothing"] + rows[at:], f"no row {at}")
@@ -133,7 +136,8 @@ class Orders(Asked):
         desk = self.told(ann=trusting(0), bob=plain(CD, "d"), cyd=nots(0, 2), dan=plain(["run", "stay"], "stay"))
         self.says(desk, ("last ann", "d"), ("last ann bob", "d d"), ("last ann cyd", "c c"), ("last dan ann", "stay d"),
                   ("last ann ann ann ann", "c c c c"), ("last ann cyd dan bob", "d d stay d"),
-                  ("last eve", "refused noname"), ("last ann eve", "refused noname"), ("last eve eve eve eve", "refused noname"))
+                  ("last eve", "refused noname"), ("last ann eve", "refused noname"),
+                  ("last eve eve eve eve", "refused noname"))
 
     def test_brought(self):
         desk = self.told(ann=trusting(2), bob=password("d", "c"), dan=plain(CD, "c"))
@@ -151,7 +155,8 @@ class Orders(Asked):
         desk = self.told(ann=trusting(1), bob=nots(1, 4), cyd=plain(CD, "c"), dan=plain(CD, "d"))
         self.says(desk, ("alike ann bob by c d", "alike"), ("alike ann ann by x", "alike"),
                   ("alike ann cyd by c d", "unlike c d"), ("alike cyd ann by d c", "unlike d d"),
-                  ("alike cyd ann by c", "alike"), ("alike cyd dan by c d", "unlike"), ("alike cyd eve by c", "refused noname"),
+                  ("alike cyd ann by c", "alike"), ("alike cyd dan by c d", "unlike"),
+                  ("alike cyd eve by c", "refused noname"),
                   ("alike eve cyd by c", "refused noname"), ("alike cyd dan by c c", "refused nomoves"),
                   ("alike cyd dan by a b c d e", "refused nomoves"), ("alike eve dan by c c", "refused noname"))
 
@@ -163,21 +168,26 @@ class Orders(Asked):
                   ("machine ann by c c", "refused nomoves"), ("machine ann by a b c d e", "refused nomoves"))
 
     def test_any_other_row(self):
-        rows = ["", " ", "  ", "what", "player", "player ", "player ann bob", "player Ann", "player abcdefghi", "player 1",
+        rows = ["", " ", "  ", "what", "player", "player ", "player ann bob", "player Ann", "player abcdefghi",
+                "player 1",
                 "Player ann", " player ann", "player  ann", "player ann ", "drop", "drop ", "drop ann bob", "drop Ann",
-                " drop ann", "drop  ann", "drop ann ", "back ", " back", "back ann", "back back", "Back", "last", "last ",
-                "last ann ann ann ann ann", "last Ann", "last ann ", "last  ann", " last ann", "last ann  bob", "last ann1",
+                " drop ann", "drop  ann", "drop ann ", "back ", " back", "back ann", "back back", "Back", "last",
+                "last ",
+                "last ann ann ann ann ann", "last Ann", "last ann ", "last  ann", " last ann", "last ann  bob",
+                "last ann1",
                 "brought", "brought ann c c by", "brought ann c c by ", "brought ann c c", "brought ann c by c d",
                 "brought ann c c c by c", "brought ann c c to c d", "brought Ann c c by c", "brought ann C c by c",
                 "brought ann c C by c", "brought ann c c by C", "brought ann c c by c D", "brought ann c c by c  d",
                 "brought ann c c  by c d", "brought ann c c by c d ", " brought ann c c by c d", "brought ann c c By c",
                 "alike", "alike ann", "alike ann bob", "alike ann bob by", "alike ann bob by ", "alike ann by c",
                 "alike ann bob cyd by c", "alike ann bob c by c", "alike Ann bob by c", "alike ann Bob by c",
-                "alike ann bob by C", "alike ann bob by c ", "alike  ann bob by c", " alike ann bob by c", "alike ann bob to c",
+                "alike ann bob by C", "alike ann bob by c ", "alike  ann bob by c", " alike ann bob by c",
+                "alike ann bob to c",
                 "machine", "machine ann", "machine ann by", "machine ann by ", "machine ann c", "machine ann bob by c",
                 "machine ann to c d", "machine Ann by c", "machine ann by C", "machine ann by c ", "machine  ann by c",
                 " machine ann by c", "machines ann by c", "best ann", "best ann by c", "moves c d", "false", "choose",
-                "ann", "over", "over ", "ok", "..", "never", "put ann", "names", "last ann,bob", "last ann-bob", "~", "!"]
+                "ann", "over", "over ", "ok", "..", "never", "put ann", "names", "last ann,bob", "last ann-bob", "~",
+                "!"]
         desk = self.three()
         for row in rows:
             with self.subTest(row=row):

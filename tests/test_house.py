@@ -67,13 +67,16 @@ def no_deeds():
     """Things that are no deed."""
     player = plain(CD, "c")
     wrong = [("put", "ann"), ("put", "ann", player, player), ("puts", "ann", player), ("drop", "ann", player),
-             ("drop",), ("put",), ("drop", "ann", None), ("drop", "ann", "bob"), ("ann", player), ("put", player, "ann"),
-             ("Put", "ann", player), (None, "ann", player), (player, "ann", player), (("put",), "ann", player), "put ann",
+             ("drop",), ("put",), ("drop", "ann", None), ("drop", "ann", "bob"), ("drop", "ann", None, None),
+             ("ann", player), ("put", player, "ann"),
+             ("Put", "ann", player), (None, "ann", player), (player, "ann", player), (("put",), "ann", player),
+             "put ann",
              (), [], [("put", "ann", player)], {"put": "ann"}, ("drop", ("ann",)), (0, "ann"), (["drop"], "ann")]
     wrong += [("put", name, player) for name in no_moves_names() + other_objects()]
     wrong += [("drop", name) for name in no_moves_names() + other_objects()]
     wrong += [("put", "ann", thing) for thing in no_players()]
-    return wrong + no_lists() + other_objects() + [nested(30, lambda thing: [thing]), nested(30, lambda thing: (thing,))]
+    return wrong + no_lists() + other_objects() + [nested(30, lambda thing: [thing]),
+                                                   nested(30, lambda thing: (thing,))]
 
 
 def no_questions():
@@ -81,17 +84,20 @@ def no_questions():
     wrong = [("last",), ("last", ("ann",), ("bob",)), ("last", "ann"), ("last", ()), ("last", []),
              ("last", ("ann",) * 5), ("last", {"ann": 1}), ("lasts", ("ann",)), ("last", "ann", "bob"),
              ("brought", "ann", CD, "c"), ("brought", "ann", CD, "c", "c", "c"), ("brought",),
-             ("alike", "ann", "bob"), ("alike", "ann", "bob", CD, CD), ("alike", "ann", CD), ("alike", ("ann", "bob"), CD),
+             ("alike", "ann", "bob"), ("alike", "ann", "bob", CD, CD), ("alike", "ann", CD),
+             ("alike", ("ann", "bob"), CD),
              ("machine", "ann"), ("machine", "ann", CD, CD), ("machine", CD, "ann"), ("machine",),
              ("best", "ann"), ("best", "ann", table(), table()), ("best", table(), "ann"), ("best",),
              ("put", "ann", trusting(0)), ("drop", "ann"), ("stood", table(), "c", "c"), ("endings", "ann", CD),
              (), [], "last", "last ann", (None, ("ann",)), (("last",), ("ann",)), (["last"], ["ann"]),
-             (trusting(0), ("ann",)), ("Last", ("ann",)), {"last": ("ann",)}, (0, "ann", CD), ("last", ("ann", ("bob",)))]
+             (trusting(0), ("ann",)), ("Last", ("ann",)), {"last": ("ann",)}, (0, "ann", CD),
+             ("last", ("ann", ("bob",)))]
     for name in no_moves_names() + other_objects():
         wrong += [("last", (name,)), ("last", ("ann", name)), ("brought", name, CD, "c", "c"), ("machine", name, CD),
                   ("alike", name, "ann", CD), ("alike", "ann", name, CD), ("best", name, table())]
     wrong += [("best", "ann", thing) for thing in [*no_lists(), [], (), DILEMMA, (CD, CD, DILEMMA), *other_objects()]]
-    return wrong + no_lists() + other_objects() + [nested(30, lambda thing: [thing]), nested(30, lambda thing: (thing,))]
+    return wrong + no_lists() + other_objects() + [nested(30, lambda thing: [thing]),
+                                                   nested(30, lambda thing: (thing,))]
 
 
 class Deeds(Asked):
@@ -230,7 +236,8 @@ class AllDone(Asked):
                                                    ("put", "ann", till(2)), ("put", "bob", till(3))])))
             self.assertEqual((house.player("ann"), house.player("bob")), (till(2), till(3)))
             # Each is taken back by itself.
-            for names, bob in ((["ann", "bob"], till(1)), (["bob"], till(1)), (["ann", "bob"], till(1)), (["ann"], None)):
+            for names, bob in ((["ann", "bob"], till(1)), (["bob"], till(1)), (["ann", "bob"], till(1)),
+                               (["ann"], None)):
                 self.assertIs(house.back(), True)
                 self.assertEqual(house.names(), names)
                 if bob is not None:
@@ -624,6 +631,23 @@ class Twins(Asked):
             self.assertEqual(other.names(), ["ann"])
             self.assertEqual(one.names(), ["ann", "cyd"])
             self.assertEqual(one.player("ann"), till(9))
+
+    def test_neither_keeps_what_the_other_reckoned(self):
+        for turn in (False, True):
+            house = three()
+            house.ask(("last", ("ann",)))
+            twin = house.twin()
+            one, other = (twin, house) if turn else (house, twin)
+            question = ("machine", "ann", ("c", "d"))
+            one.ask(question)
+            other.ask(question)
+            self.assertEqual(one.made(), [("last", ("ann",)), question])
+            self.assertEqual(other.made(), [("last", ("ann",)), question])
+            # What the one forgets the other one still has.
+            one.do(("drop", "ann"))
+            other.ask(question)
+            other.ask(("last", ("ann",)))
+            self.assertEqual(len(other.made()), 2)
 
     def test_at_any_moment(self):
         twin = House().twin()

@@ -328,8 +328,10 @@ class Alike(Judged):
 
     def test_answers_of_other_kinds(self):
         told = alike(trusting(0), trusting(0), C_D)
-        for answer in [*no_lists(), (), [], ("alike",), (*told, ()), list(told), ("alikes", told[1]), ("unlike", told[1]),
-                       ("alike", ()), ("alike", None), ("unlike", ()), ("unlike", None), ("row", ("d",)), *other_objects()]:
+        for answer in [*no_lists(), (), [], ("alike",), (*told, ()), list(told), ("alikes", told[1]),
+                       ("unlike", told[1]),
+                       ("alike", ()), ("alike", None), ("unlike", ()), ("unlike", None), ("row", ("d",)),
+                       *other_objects()]:
             self.behind(*self.row(trusting(0), trusting(0), answer), False)
 
     def test_refused(self):
@@ -419,7 +421,8 @@ class Houses(Judged):
                     kind, letters = brought(player, CD, mine, yours)
                     self.assertEqual(is_so, kind == "never")
                     if kind == "row":
-                        self.judged(put(ann=player) + [("brought", "ann", C_D, mine, yours, (kind, letters + (yours,)))],
+                        self.judged(put(ann=player) + [("brought", "ann", C_D, mine, yours,
+                                                        (kind, letters + (yours,)))],
                                     None)
 
     def test_each_thing_otherwise_of_some(self):

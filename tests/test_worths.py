@@ -441,7 +441,8 @@ class ShowsStood(Asked):
                 self.assertIs(self.shows("stands", self.one, player, self.ones, self.others), False)
 
     def test_papers_of_no_stands(self):
-        for wrong in [(stand,) for stand in no_stands(self.one)] + [None, [], list(self.ones), "c", 0, True, {}, self.one]:
+        for wrong in [(stand,) for stand in no_stands(self.one)] + [None, [], list(self.ones), "c", 0, True, {},
+                                                                    self.one]:
             with self.subTest(wrong=wrong):
                 told = self.ones + wrong if isinstance(wrong, tuple) else wrong
                 self.assertIs(self.shows("stands", self.one, self.other, told, self.others), False)

@@ -75,7 +75,8 @@ class PlayerOf(Written):
     def test_few_rows(self):
         for letters, rows in (
                 (["c"], [("c", (1,)), ("d", (1,))]), (CD, [("c", (0, 1)), ("d", (1, 1))]),
-                (CD, [("c", (1, 1)), ("d", (2, 2)), ("c", (2, 2))]), (CD, [("c", (1, 2)), ("d", (1, 1)), ("e", (2, 2))]),
+                (CD, [("c", (1, 1)), ("d", (2, 2)), ("c", (2, 2))]),
+                (CD, [("c", (1, 2)), ("d", (1, 1)), ("e", (2, 2))]),
                 # Splits and comes together again.
                 (CD, [("c", (1, 2)), ("d", (3, 1)), ("e", (3, 3)), ("c", (3, 3))]),
                 (CD, [("c", (1, 2)), ("d", (3, 4)), ("e", (4, 3)), ("c", (3, 5)), ("d", (5, 4)), ("f", (5, 5))]),
@@ -104,7 +105,8 @@ class PlayerOf(Written):
 
     def test_long_chains(self):
         for many in (2, 3, 10, 39, 40):
-            for moves in (["c"] * (many - 1) + ["d"], [MOVES[at % 4] for at in range(many)], (["c", "d"] * many)[:many]):
+            for moves in (["c"] * (many - 1) + ["d"], [MOVES[at % 4] for at in range(many)],
+                          (["c", "d"] * many)[:many]):
                 machine = chain(moves)
                 self.assertEqual(len(machine.least().rows()), many)
                 player = self.written(machine, MOVES)
@@ -119,7 +121,8 @@ class PlayerOf(Written):
                 rows = []
                 for at in range(40):
                     # To the next one, to the last one, a few further on, and where it is.
-                    tos = [min(at + 1, 39), 39, min(at + ways, 39), at if ways % 2 else min(at + 2 * ways, 38 + at // 39)]
+                    tos = [min(at + 1, 39), 39, min(at + ways, 39),
+                           at if ways % 2 else min(at + 2 * ways, 38 + at // 39)]
                     rows.append((MOVES[(at * (ways + 1) + at // 7) % 4], tuple(tos[:len(letters)])))
                 self.written(Machine(letters, rows), MOVES)
 
@@ -225,6 +228,10 @@ class Smallest(Written):
                 for others in (CD, ["c"], ["x", "c"]):
                     with self.subTest(k=k, rows=len(player.rows()), others=others):
                         self.small(player, others)
+        for k in (60, 99):
+            player = laden(trusting(k), 50)
+            self.assertGreater(stands_of(player, CD), k + 2)
+            self.assertEqual(stands_of(self.small(player, CD), CD), k + 2)
         # Of a hundred levels two are told apart.
         rows = [FALSE, ("shown", 99, 0), ("shown", 1, 0), ("and", 1, 2), ("or", 2, 3)]
         player = Player(CD, rows, [4])
@@ -241,9 +248,9 @@ class Smallest(Written):
                 found = self.small(player, letters)
                 many.append(stands_of(player, letters))
                 least.append(stands_of(found, letters))
-        self.assertGreater(max(many), 200)
+        self.assertGreater(max(many), 100)
         self.assertGreater(max(least), 30)
-        self.assertGreater(sum(1 for stands, rows in zip(many, least) if stands > 40 > rows), 10)
+        self.assertGreater(sum(1 for stands, rows in zip(many, least) if stands > 40 > rows), 4)
 
     def test_some_of_all_kinds(self):
         seed = random.Random(94)
