@@ -2,9 +2,13 @@
 
 import unittest
 
+from lookthrough.desk import Desk
 from lookthrough.errors import SightError
 from lookthrough.facing import Faced
+from lookthrough.house import House
+from lookthrough.machines import Machine
 from lookthrough.meetings import Meeting
+from lookthrough.worths import Table
 from things import nested, no_lists, no_numbers, some_player
 
 
@@ -23,7 +27,8 @@ class Asked(unittest.TestCase):
 
 def other_objects():
     """Objects of this package that are no players."""
-    return [Meeting([some_player()]), Faced(some_player(), [], "c")]
+    return [Meeting([some_player()]), Faced(some_player(), [], "c"), Machine(["c"], [("c", (0,))]),
+            Table(["c"], ["d"], {("c", "d"): (0, 0)}), House(), Desk()]
 
 
 def no_players():

@@ -95,7 +95,8 @@ def no_questions():
     for name in no_moves_names() + other_objects():
         wrong += [("last", (name,)), ("last", ("ann", name)), ("brought", name, CD, "c", "c"), ("machine", name, CD),
                   ("alike", name, "ann", CD), ("alike", "ann", name, CD), ("best", name, table())]
-    wrong += [("best", "ann", thing) for thing in [*no_lists(), [], (), DILEMMA, (CD, CD, DILEMMA), *other_objects()]]
+    wrong += [("best", "ann", thing) for thing in [*no_lists(), [], (), DILEMMA, (CD, CD, DILEMMA), *other_objects()]
+              if not isinstance(thing, Table)]
     return wrong + no_lists() + other_objects() + [nested(30, lambda thing: [thing]),
                                                    nested(30, lambda thing: (thing,))]
 
